@@ -1,0 +1,1 @@
+"""Foldednets: places of a net that are folded onto others, in any order."""
