@@ -1,19 +1,21 @@
 """Orders of folding, the ends to which they lead, and how many there are."""
 
-from foldednets.lots import check_place, fold_pairs, foldable_places, holds, members
-from foldednets.lots import read_lot, read_net, read_order, whole_lot
+from foldednets.counts import count_around
+from foldednets.lots import check_place, fold_around, goals_behind, members
+from foldednets.lots import read_folds, read_lot, read_net
 
 
 def folds(places, lines):
     """List the pairs of a place and another one onto which it can be folded at first, ascending."""
     near = read_net(places, lines)
-    return fold_pairs(near, whole_lot(near))
+    return [[place, other] for place, mine in enumerate(near) if mine
+            for other, theirs in enumerate(near) if theirs & mine == mine and other != place]
 
 
 def left_after(places, lines, order):
     """List the places that are left behind an order, ascending."""
-    near = read_net(places, lines)
-    return members(near, read_order(near, order))
+    lot, _ = read_folds(read_net(places, lines), order)
+    return members(lot)
 
 
 def full_order(places, lines):
@@ -23,37 +25,34 @@ def full_order(places, lines):
 
 def end_size(places, lines):
     """Return the number of the places of an end."""
-    near = read_net(places, lines)
-    return len(near) - len(_order_around(near, 0))
+    return places - len(full_order(places, lines))
 
 
 def ends(places, lines):
     """List all ends, each and all of them ascending."""
     near = read_net(places, lines)
-    return sorted([members(near, lot) for lot in _end_lots(near, _count_by_lot(near))])
+    return sorted([members(lot) for lot in _likely_ends(near) if _can_be_left(near, lot)])
 
 
 def count_orders(places, lines):
     """Return the number of full orders."""
-    near = read_net(places, lines)
-    counts = _count_by_lot(near)
-    return sum([counts[lot] for lot in _end_lots(near, counts)])
+    return count_around(read_net(places, lines), 0)
 
 
 def count_orders_to(places, lines, left):
     """Return the number of orders, full or not, that leave just some places."""
     near = read_net(places, lines)
     lot = read_lot(near, left)
-    return _count_by_lot(near).get(lot, 0)
+    return count_around(near, lot) if _can_be_left(near, lot) else 0
 
 
 def order_keeping(places, lines, place):
     """Return an order that leaves one place alone, or None if there is none."""
     near = read_net(places, lines)
     check_place(near, place)
-    # Never folding a place leads to it alone always or never, so one try is enough.
     order = _order_around(near, 1 << place)
-    return order if len(order) == len(near) - 1 else None
+    # Never folding a place leads to it alone always or never, so one try is enough.
+    return order if len(order) == places - 1 else None
 
 
 def order_holding(places, lines, held):
@@ -63,40 +62,23 @@ def order_holding(places, lines, held):
 
 
 def _order_around(near, held):
-    """Fold the least place that is not of the lot `held`, until none can be; return the order."""
-    order = []
-    lot = whole_lot(near)
-    free = _free_places(near, lot, held)
-    while free:
-        order.append(free[0])
-        lot ^= 1 << free[0]
-        free = _free_places(near, lot, held)
-    return order
+    _, pairs = fold_around(near, held)
+    return [place for place, _ in pairs]
 
 
-def _free_places(near, lot, held):
-    return [place for place in foldable_places(near, lot) if not holds(held, place)]
+def _can_be_left(near, lot):
+    """Tell whether any order leaves just this lot."""
+    # All that can be left while the lot is held has as many places, so one try is enough.
+    left, _ = fold_around(near, lot)
+    return left == lot
 
 
-def _count_by_lot(near):
-    """Count, for each lot that any order leaves, the orders that leave it."""
-    counts = {}
-    layer = {whole_lot(near): 1}
-    while layer:
-        counts.update(layer)
-        layer = _next_layer(near, layer)
-    return counts
-
-
-def _next_layer(near, layer):
-    """Count by lot the orders that are longer by one place than those of a layer."""
-    longer = {}
-    for lot, number in layer.items():
-        for place in foldable_places(near, lot):
-            rest = lot ^ (1 << place)
-            longer[rest] = longer.get(rest, 0) + number
-    return longer
-
-
-def _end_lots(near, counts):
-    return [lot for lot in counts if not foldable_places(near, lot)]
+def _likely_ends(near):
+    """List lots, with all ends among them."""
+    left, pairs = fold_around(near, 0)
+    where = goals_behind(near, pairs)
+    lots = [0]
+    # By the map of a full order one place of each end goes to each place of its own end.
+    for goal in members(left):
+        lots = [lot | 1 << place for lot in lots for place, at in enumerate(where, start=1) if at == goal]
+    return lots

@@ -1,14 +1,14 @@
 """Nets: what is beside a place, and the product of two nets."""
 
 from foldednets.errors import InvalidNumber
-from foldednets.lots import MOST_PLACES, check_place, holds, members, read_net
+from foldednets.lots import MOST_PLACES, check_place, members, read_net
 
 
 def beside(places, lines, place):
     """List the places beside a place, itself among them, ascending."""
     near = read_net(places, lines)
     check_place(near, place)
-    return members(near, near[place])
+    return members(near[place])
 
 
 def product(places, lines, more, ties):
@@ -21,11 +21,14 @@ def product(places, lines, more, ties):
 
 
 def _product_lines(near, near_more):
-    parts = [(first, second) for first in near for second in near_more]
-    joined = []
-    for low in range(len(parts)):
-        for high in range(low + 1, len(parts)):
-            first, second = parts[high]
-            if holds(near[parts[low][0]], first) and holds(near_more[parts[low][1]], second):
-                joined.append([low + 1, high + 1])
-    return joined
+    more = len(near_more) - 1
+    firsts = [members(lot) for lot in near]
+    seconds = [members(lot) for lot in near_more]
+    lines = []
+    for first in range(1, len(near)):
+        # The places of a row, as many as the second net has, have the same first part.
+        rows = [(one - 1) * more for one in firsts[first] if one >= first]
+        for second in range(1, len(near_more)):
+            low = rows[0] + second
+            lines.extend([[low, row + two] for row in rows for two in seconds[second] if row + two > low])
+    return lines

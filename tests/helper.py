@@ -75,6 +75,24 @@ def chance_nets(seed, sizes, number):
         yield places, [line for line in clique(1, places) if chance.random() < share]
 
 
+def grown_nets(seed, sizes, number):
+    """Nets of which one place is left at last, by chance, each time the same ones, in many orders.
+
+    Each place comes beside an earlier one and some of those beside this one; then all are renamed.
+    """
+    chance = random.Random(seed)
+    for _ in range(number):
+        places = chance.choice(sizes)
+        near = {1: {1}}
+        for place in range(2, places + 1):
+            first = chance.randrange(1, place)
+            near[place] = {place, first} | {other for other in near[first] if chance.random() < 0.7}
+            for other in near[place]:
+                near[other] = near[other] | {place}
+        names = chance.sample(range(1, places + 1), places)
+        yield places, [[names[one - 1], names[two - 1]] for one in near for two in near[one] if one < two]
+
+
 def scrambled(lines, seed):
     """The same lines in another order, some of them turned about."""
     chance = random.Random(seed)
@@ -219,3 +237,94 @@ def subsets(places):
     for size in range(places + 1):
         for chosen in itertools.combinations(range(1, places + 1), size):
             yield list(chosen)
+
+
+# The same for maps, rounds, standings and catching.
+
+def least_goals(near, order):
+    """The map of an order: where each place is, each folded onto the least place possible."""
+    left, pairs = set(near), []
+    for place in order:
+        pairs.append((place, min(onto_at(near, left, place))))
+        left.remove(place)
+    return goals_of(near, pairs)
+
+
+def full_orders(near):
+    return [(order, left) for order, left in every_order(near) if not foldable_at(near, left)]
+
+
+def rounds_by_sets(near):
+    """What is left at first and after each round in which places go, as sets."""
+    found = [set(near)]
+    while True:
+        left = found[-1]
+        going = {place for place in left for other in left if near[place] & left < near[other] & left}
+        if not going:
+            return found
+        found.append(left - going)
+
+
+def renamings_by_trying(near):
+    """All renamings, from all rows of the places."""
+    return [list(told) for told in itertools.permutations(near)
+            if all((told[one - 1] in near[told[two - 1]]) == (one in near[two]) for one in near for two in near)]
+
+
+def stand_so(knows, near, standing):
+    return all(standing[two - 1] in near[standing[one - 1]] for one in knows for two in knows[one])
+
+
+def standings_by_trying(knows, near):
+    """All standings, as tuples, from all rows of as many places as there are people."""
+    return [told for told in itertools.product(near, repeat=len(knows)) if stand_so(knows, near, told)]
+
+
+def next_standings(knows, near, standing):
+    """Each step that can be done, a pair of a person and a place, with the standing that comes of it."""
+    for person in knows:
+        for place in near[standing[person - 1]] - {standing[person - 1]}:
+            other = list(standing)
+            other[person - 1] = place
+            if stand_so(knows, near, other):
+                yield (person, place), tuple(other)
+
+
+def standings_reached(knows, near, standing):
+    """All standings to which one leads."""
+    found, waiting = {tuple(standing)}, [tuple(standing)]
+    while waiting:
+        for _, other in next_standings(knows, near, waiting.pop()):
+            if other not in found:
+                found.add(other)
+                waiting.append(other)
+    return found
+
+
+def hang_together(near):
+    found, waiting = {1}, [1]
+    while waiting:
+        for other in near[waiting.pop()] - found:
+            found.add(other)
+            waiting.append(other)
+    return found == set(near)
+
+
+def turns_by_playing(near):
+    """The fewest turns from each pair of places, None where there is no catch for sure.
+
+    All are taken as without end at first; what a turn brings is worked out anew until nothing changes.
+    """
+    never = float("inf")
+    turns = {(seeker, fleer): 0 if seeker == fleer else never for seeker in near for fleer in near}
+    changed = True
+    while changed:
+        changed = False
+        for seeker, fleer in turns:
+            if seeker != fleer:
+                best = 1 + min(0 if goal == fleer else max(turns[goal, answer] for answer in near[fleer])
+                               for goal in near[seeker])
+                if best < turns[seeker, fleer]:
+                    turns[seeker, fleer] = best
+                    changed = True
+    return {pair: None if many == never else many for pair, many in turns.items()}

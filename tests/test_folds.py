@@ -2,13 +2,14 @@
 
 import itertools
 import math
+import time
 import unittest
 
 from foldednets.folds import (count_orders, count_orders_to, end_size, ends, folds, full_order, left_after,
                               order_holding, order_keeping)
 from tests.helper import (NETS, RING_AND_ONE, SEVEN, all_nets, binary_tree, call, chance_nets, clique,
-                          every_order, foldable_at, near_sets, onto_at, orders_leaving, ring, row, scrambled,
-                          small_nets, star, subsets)
+                          every_order, foldable_at, grown_nets, near_sets, onto_at, orders_leaving, ring, row,
+                          scrambled, small_nets, star, subsets)
 
 
 def left_behind(case, near, order):
@@ -202,6 +203,59 @@ class AllSmallNets(unittest.TestCase):
                     check_keeping(self, places, lines, place, order)
             for held in list(subsets(places))[::5]:
                 check_holding(self, places, lines, held, order_holding(places, lines, held))
+
+
+    def test_nets_with_many_orders(self):
+        for places, lines in grown_nets(21, [7, 8, 9], 25):
+            near = near_sets(places, lines)
+            known = {}
+            reached = [left for left in subsets(places) if orders_leaving(near, frozenset(left), known)]
+            all_ends = [left for left in reached if not foldable_at(near, set(left))]
+            self.assertEqual(ends(places, lines), all_ends)
+            self.assertEqual(count_orders(places, lines), sum(known[frozenset(end)] for end in all_ends))
+            for left in list(subsets(places))[::9] + reached[::9]:
+                self.assertEqual(count_orders_to(places, lines, left), known[frozenset(left)])
+
+    def test_twelve_places_with_many_orders(self):
+        for places, lines in grown_nets(22, [11, 12], 3):
+            near, known = near_sets(places, lines), {}
+            all_ends = ends(places, lines)
+            numbers = [orders_leaving(near, frozenset(end), known) for end in all_ends]
+            self.assertEqual(numbers, [count_orders_to(places, lines, end) for end in all_ends])
+            self.assertEqual(count_orders(places, lines), sum(numbers))
+            self.assertEqual({len(end) for end in all_ends}, {1})
+            for place in near:
+                self.assertEqual([place] in all_ends, orders_leaving(near, frozenset([place]), known) > 0)
+
+
+class AskedAgainAndAgain(unittest.TestCase):
+    """The answers about orders and ends on large nets, so often that slow ones would be told."""
+
+    def test_orders_and_ends(self):
+        full, net = clique(1, 12), row(1, 12)
+        every = [[place] for place in range(1, 13)]
+        begun = time.perf_counter()
+        for at in range(50):
+            place = at % 12 + 1
+            self.assertEqual(count_orders(12, full), 479001600)
+            self.assertEqual(ends(12, full), every)
+            self.assertEqual(count_orders_to(12, full, [place]), 39916800)
+            self.assertEqual(count_orders_to(12, full, [5, 6, 7]), math.factorial(9))
+            self.assertEqual(count_orders_to(12, full, list(range(1, 13))), 1)
+            self.assertEqual(count_orders(12, net), 2048)
+            self.assertEqual(ends(12, net), every)
+            self.assertEqual(count_orders_to(12, net, [place]), math.comb(11, place - 1))
+        self.assertLess(time.perf_counter() - begun, 10)
+
+    def test_nets_without_alike_places(self):
+        # Place 12 is beside all others; of those two rows are not beside one another. Very many lots can be left.
+        lines = [line for line in clique(1, 12) if line[1] == 12 or line[1] - line[0] > 1 or line == [4, 5]]
+        near, known = near_sets(12, lines), {}
+        wanted = sum(orders_leaving(near, frozenset(end), known) for end in ends(12, lines))
+        begun = time.perf_counter()
+        for _ in range(20):
+            self.assertEqual(count_orders(12, lines), wanted)
+        self.assertLess(time.perf_counter() - begun, 10)
 
 
 class KnownAnswers(unittest.TestCase):
