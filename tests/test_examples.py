@@ -31,6 +31,43 @@ FOLDS = """
 (4, [[1, 2, 3, 4], [2, 3, 4, 5]], 2, [[1, 2]])
 """
 
+MAPS = """
+>>> from foldednets.maps import fold_map, renaming
+>>> ring = [[1, 2], [2, 3], [3, 4], [1, 4], [1, 5], [2, 5], [4, 5]]
+>>> fold_map(5, ring, [1]), fold_map(5, ring, [5]), renaming(5, ring, [5], [1])
+([5, 2, 3, 4, 5], [1, 2, 3, 4, 1], [[1, 5], [2, 2], [3, 3], [4, 4]])
+"""
+
+NAMES = """
+>>> from foldednets.names import middle, renamings, rounds_left
+>>> row = [[1, 2], [2, 3], [3, 4]]
+>>> list(renamings(4, row)), rounds_left(4, row), middle(4, row), middle(3, [[1, 2], [2, 3]])
+([[1, 2, 3, 4], [4, 3, 2, 1]], [[1, 2, 3, 4], [2, 3]], [2, 3], [2])
+"""
+
+STANDINGS = """
+>>> from foldednets.standings import all_lead, count_standings, is_standing, may_go, parted_people
+>>> row = [[1, 2], [2, 3], [3, 4]]
+>>> is_standing(2, [[1, 2]], 4, row, [1, 3]), may_go(2, [[1, 2]], 4, row, [2, 3]), count_standings(2, [[1, 2]], 4, row)
+(False, [[1, 3], [2, 2]], 10)
+>>> all_lead(4, row), all_lead(4, row + [[4, 1]]), parted_people(4, row), parted_people(2, [])[:3]
+(True, False, None, (2, [], [1, 2]))
+>>> from foldednets.standings import steps_between
+>>> steps_between(1, [], 2, [], [1], [1]), steps_between(1, [], 1, [], [1], [1])
+(None, [])
+"""
+
+CATCHING = """
+>>> from foldednets.catching import best_starts, seeker_goes, turns_to_catch
+>>> row = [[1, 2], [2, 3], [3, 4]]
+>>> turns_to_catch(4, row, 1, 4), turns_to_catch(4, row, 2, 2), best_starts(4, row), seeker_goes(4, row, 1, 3)
+(3, 0, ([2, 3], 2), 2)
+>>> best_starts(5, [[1, 2], [2, 3], [2, 4], [3, 4], [4, 5]]), turns_to_catch(2, [[1, 2]], 1, 2)
+(([2, 3, 4], 2), 1)
+>>> turns_to_catch(4, row + [[4, 1]], 1, 3), turns_to_catch(4, row + [[4, 1]], 1, 2), best_starts(4, row + [[4, 1]])
+(None, 1, ([], None))
+"""
+
 DESK = """
 >>> from foldednets.desk import Desk
 >>> desk = Desk(4, [[1, 2], [2, 3], [3, 4]])
@@ -58,6 +95,18 @@ class Examples(unittest.TestCase):
 
     def test_folds(self):
         self.check(FOLDS)
+
+    def test_maps(self):
+        self.check(MAPS)
+
+    def test_names(self):
+        self.check(NAMES)
+
+    def test_standings(self):
+        self.check(STANDINGS)
+
+    def test_catching(self):
+        self.check(CATCHING)
 
     def test_desk(self):
         self.check(DESK)

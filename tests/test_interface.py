@@ -17,6 +17,15 @@ FUNCTIONS = {
               "full_order": ["places", "lines"], "end_size": ["places", "lines"], "ends": ["places", "lines"],
               "count_orders": ["places", "lines"], "count_orders_to": ["places", "lines", "left"],
               "order_keeping": ["places", "lines", "place"], "order_holding": ["places", "lines", "held"]},
+    "maps": {"fold_map": ["places", "lines", "order"], "renaming": ["places", "lines", "order", "other"]},
+    "names": {"renamings": ["places", "lines"], "rounds_left": ["places", "lines"], "middle": ["places", "lines"]},
+    "standings": {"is_standing": ["people", "ties", "places", "lines", "standing"],
+                  "may_go": ["people", "ties", "places", "lines", "standing"],
+                  "count_standings": ["people", "ties", "places", "lines"], "all_lead": ["places", "lines"],
+                  "steps_between": ["people", "ties", "places", "lines", "standing", "goal"],
+                  "parted_people": ["places", "lines"]},
+    "catching": {"turns_to_catch": ["places", "lines", "seeker", "fleer"], "best_starts": ["places", "lines"],
+                 "seeker_goes": ["places", "lines", "seeker", "fleer"]},
 }
 CLASSES = {
     "errors": {"InvalidNumber": ["__init__"], "InvalidNet": ["__init__"], "InvalidOrder": ["__init__"],
@@ -53,6 +62,10 @@ class Interface(unittest.TestCase):
                 self.assertIn(name, defined)
                 for method in methods:
                     self.assertIn(method, vars(getattr(loaded, name)))
+
+    def test_renamings_is_a_generator(self):
+        function = importlib.import_module("foldednets.names").renamings
+        self.assertTrue(inspect.isgeneratorfunction(function))
 
     def test_run_is_a_generator(self):
         desk = importlib.import_module("foldednets.desk").Desk

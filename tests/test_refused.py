@@ -1,13 +1,17 @@
-"""What is refused: points 2, 5, 6 and 8, and the paragraphs ahead of the interface's first heading."""
+"""What is refused: points 2, 5 to 11, and the paragraphs ahead of the interface's first heading."""
 
 import itertools
 import unittest
 
+from foldednets.catching import best_starts, seeker_goes, turns_to_catch
 from foldednets.desk import Desk
-from foldednets.errors import InvalidNet, InvalidNumber, InvalidOrder, UnknownPlace
+from foldednets.errors import InvalidNet, InvalidNumber, InvalidOrder, InvalidStanding, NotBeside, UnknownPlace
 from foldednets.folds import (count_orders, count_orders_to, end_size, ends, folds, full_order, left_after,
                               order_holding, order_keeping)
+from foldednets.maps import fold_map, renaming
+from foldednets.names import middle, renamings, rounds_left
 from foldednets.nets import beside, product
+from foldednets.standings import all_lead, count_standings, is_standing, may_go, parted_people, steps_between
 from tests.helper import clique, error_of, row
 
 
@@ -96,19 +100,52 @@ def wrong_lot():
     return found
 
 
+def wrong_rows():
+    """What does not tell a place of a net of four places for each of three people."""
+    found = [(value, InvalidStanding, "index", None) for value in NO_LISTS]
+    for standing in ([], [1], [1, 2], [1, 2, 2, 2], [None] * 2, [None] * 4, [9] * 12, [[1, 1, 1]], knotted()):
+        found.append((standing, InvalidStanding, "index", None))
+    for place in NO_NUMBERS + [5, 13, [2], knotted()]:
+        found.append(([2, place, 3], InvalidStanding, "index", 1))
+        # Also where two already do not stand beside one another.
+        found.append(([1, 4, place], InvalidStanding, "index", 2))
+        found.append(([place, None, 5], InvalidStanding, "index", 0))
+    return found
+
+
+def wrong_standing():
+    """The same, and rows of three people, each of whom knows the next one, that are no standings."""
+    return wrong_rows() + [([1, 3, 3], NotBeside, "pair", [1, 2]), ([1, 2, 4], NotBeside, "pair", [2, 3]),
+                           ([1, 4, 1], NotBeside, "pair", [1, 2]), ([4, 4, 1], NotBeside, "pair", [2, 3])]
+
+
+def renamings_listed(places, lines):
+    return list(renamings(places, lines))
+
+
 # For each argument a value as described, and those that are not, with the error of each.
-RIGHT = {"places": 4, "lines": row(1, 4), "more": 3, "ties": row(1, 3), "place": 2, "order": [1, 4],
-         "left": [2, 3], "held": [1, 3]}
+RIGHT = {"places": 4, "lines": row(1, 4), "more": 3, "people": 3, "ties": row(1, 3), "place": 2,
+         "order": [1, 4, 2], "other": [4, 3, 2], "left": [2, 3], "held": [1, 3], "standing": [1, 2, 3],
+         "goal": [4, 4, 4], "seeker": 1, "fleer": 4}
 WRONG = {"places": wrong_places(), "lines": wrong_lines(), "more": wrong_places(), "place": wrong_place(),
-         "order": wrong_order(), "left": wrong_lot(), "held": wrong_lot(),
+         "order": wrong_order(), "other": wrong_order(), "left": wrong_lot(), "held": wrong_lot(),
+         "people": wrong_places(), "standing": wrong_standing(), "goal": wrong_standing(),
+         "seeker": wrong_place(), "fleer": wrong_place(),
          "ties": [wrong for wrong in wrong_lines() if wrong[3] is None]
          + [([[1, 2], [2, 4]], InvalidNet, "index", 1), ([[1, 2], [3, 2], [2, 1]], InvalidNet, "index", 2),
             ([[3, True]], InvalidNet, "index", 0), ([(1, 2)], InvalidNet, "index", 0)]}
+PEOPLE_FIRST = ("people", "ties", "places", "lines")
 CALLS = {beside: ("places", "lines", "place"), product: ("places", "lines", "more", "ties"),
          folds: ("places", "lines"), left_after: ("places", "lines", "order"), full_order: ("places", "lines"),
          end_size: ("places", "lines"), ends: ("places", "lines"), count_orders: ("places", "lines"),
          count_orders_to: ("places", "lines", "left"), order_keeping: ("places", "lines", "place"),
-         order_holding: ("places", "lines", "held"), Desk: ("places", "lines")}
+         order_holding: ("places", "lines", "held"), Desk: ("places", "lines"),
+         fold_map: ("places", "lines", "order"), renaming: ("places", "lines", "order", "other"),
+         renamings_listed: ("places", "lines"), rounds_left: ("places", "lines"), middle: ("places", "lines"),
+         may_go: PEOPLE_FIRST + ("standing",), count_standings: PEOPLE_FIRST, all_lead: ("places", "lines"),
+         steps_between: PEOPLE_FIRST + ("standing", "goal"), parted_people: ("places", "lines"),
+         turns_to_catch: ("places", "lines", "seeker", "fleer"), best_starts: ("places", "lines"),
+         seeker_goes: ("places", "lines", "seeker", "fleer")}
 
 
 def same_things(one, other):
@@ -130,7 +167,12 @@ class Refused(unittest.TestCase):
 
     def check(self, error, field, wanted):
         self.assertEqual(list(vars(error)), [field])
-        self.assertIs(vars(error)[field], wanted)
+        if field == "pair":
+            # What is told is a new list each time.
+            self.assertEqual(error.pair, wanted)
+            self.assertIsNot(error.pair, wanted)
+        else:
+            self.assertIs(vars(error)[field], wanted)
 
     def test_the_right_values_are_taken(self):
         for function, names in CALLS.items():
@@ -197,6 +239,53 @@ class Refused(unittest.TestCase):
         self.check(error, "index", 11)
         self.check(error_of(self, InvalidOrder, left_after, 1, [], [1]), "index", 0)
         self.check(error_of(self, InvalidOrder, left_after, 2, [], [2]), "index", 0)
+
+
+class RefusedByIsStanding(unittest.TestCase):
+    """It raises the errors of the others, but NotBeside never."""
+
+    def check(self, kind, field, wanted, *passed):
+        named = dict(zip(("people", "ties", "places", "lines", "standing"), passed))
+        for error in (error_of(self, kind, is_standing, *passed), error_of(self, kind, is_standing, **named),
+                      error_of(self, kind, is_standing, **dict(reversed(list(named.items()))))):
+            self.assertEqual(list(vars(error)), [field])
+            self.assertIs(vars(error)[field], wanted)
+
+    def test_each_argument(self):
+        right = [RIGHT[name] for name in ("people", "ties", "places", "lines")]
+        for at, name in enumerate(("people", "ties", "places", "lines")):
+            for value, kind, field, wanted in WRONG[name]:
+                passed = right[:at] + [value] + right[at + 1:]
+                for standing in (RIGHT["standing"], [1, 3, 1], None, [1, 2, 9]):
+                    self.check(kind, field, wanted, *passed, standing)
+        for value, kind, field, wanted in wrong_rows():
+            self.check(kind, field, wanted, *right, value)
+
+    def test_not_beside_is_never_raised(self):
+        for standing, _, _, wanted in wrong_standing():
+            if isinstance(wanted, list):
+                self.assertIs(is_standing(3, row(1, 3), 4, row(1, 4), standing), False)
+
+    def test_numbers_of_places_and_of_people(self):
+        for many in range(1, 13):
+            self.assertIs(is_standing(many, [], 12, [], list(range(1, many + 1))), True)
+            self.check(InvalidStanding, "index", None, many, [], 12, [], [1] * (many + 1))
+            self.check(InvalidStanding, "index", None, many, [], 12, [], [1] * (many - 1))
+            self.check(InvalidStanding, "index", many - 1, many, [], many, [], [1] * (many - 1) + [many + 1])
+            self.check(InvalidNet, "index", 0, many, [[1, many + 1]], many + 1, [[1, many + 1]], [1] * many)
+
+
+class RefusedWhenAskedFor(unittest.TestCase):
+
+    def test_renamings(self):
+        for name in ("places", "lines"):
+            for value, kind, field, wanted in WRONG[name]:
+                named = {"places": 4, "lines": row(1, 4), name: value}
+                for asked in (renamings(*named.values()), renamings(**named)):
+                    error = error_of(self, kind, next, asked)
+                    self.assertEqual(list(vars(error)), [field])
+                    self.assertIs(vars(error)[field], wanted)
+                    self.assertIsNone(next(asked, None))
 
 
 class ProductsThatAreTooLarge(unittest.TestCase):
